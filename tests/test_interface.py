@@ -1,0 +1,66 @@
+"""The names of the interface, where they are defined and what they take."""
+
+import importlib
+import inspect
+import unittest
+
+from onelife import errors
+
+FUNCTIONS = {
+    "machines": {
+        "end_of": "machine, life", "words_of": "machine, life", "lives": "machine, length", "can_come": "machine",
+        "is_loud": "machine"},
+    "tables": {
+        "spelled": "machine, marks, table, life", "telling": "machine, marks, table, life", "clash_of": "rows",
+        "is_apart": "machine, marks, table", "is_full": "marks, rows", "share": "marks, rows"},
+    "worlds": {name: "machine, marks, table, story" for name in (
+        "wheel_after", "shelf_after", "heard", "spoken", "stands", "is_dead", "two_lives")},
+    "pairs": {
+        "is_safe": "machine, marks, table", "parting": "machine, marks, table",
+        "closed_paper": "machine, marks, table", "shows_parting": "machine, marks, table, value",
+        "shows_closed": "machine, marks, table, value"},
+    "tricks": {
+        "story_of": "machine, marks, table, one, other", "shows_story": "machine, marks, table, one, other, value"},
+    "codes": {
+        "least_longest": "marks, many", "least_price": "marks, weights",
+        "least_price_within": "marks, weights, most", "least_price_in_order": "marks, weights",
+        "rows_for": "marks, lengths", "cheapest_rows": "marks, weights", "shows_cheapest": "marks, weights, value",
+        "loud_table": "machine, marks"},
+    "searches": {"least_table": "machine, marks, most", "shows_least_table": "machine, marks, most, value"},
+}
+
+ERRORS = {
+    "BadMachine": ["index"], "BadLife": [], "BadNumber": [], "BadMarks": [], "BadTable": ["index"], "BadRows": [],
+    "BadStory": ["index"], "NotAlong": [], "BadLengths": [], "BadWeights": [], "NoTable": [], "NotApart": ["state"],
+    "BadManner": [], "BadString": [], "BadLine": ["line", "word"], "BadStep": [], "TooMany": ["most"],
+    "BadProgram": [], "Endless": [], "BadHouse": [], "BadHeard": ["index"], "BadSpelled": [],
+}
+
+
+class InterfaceTest(unittest.TestCase):
+    def test_functions_are_defined_where_they_are_listed(self):
+        for module, functions in FUNCTIONS.items():
+            found = importlib.import_module("onelife." + module)
+            for name, arguments in functions.items():
+                function = getattr(found, name)
+                self.assertEqual(function.__module__, "onelife." + module)
+                self.assertEqual(", ".join(inspect.signature(function).parameters), arguments, name)
+
+    def test_errors_are_direct_subclasses_with_their_fields(self):
+        self.assertEqual(errors.LifeError.__bases__, (ValueError,))
+        for name, fields in ERRORS.items():
+            error = getattr(errors, name)
+            self.assertEqual(error.__bases__, (errors.LifeError,))
+            self.assertEqual(error.__module__, "onelife.errors")
+            made = error(*range(3, 3 + len(fields)))
+            self.assertEqual(vars(made), dict(zip(fields, range(3, 6))))
+            self.assertEqual(vars(error(**{field: None for field in fields})), {field: None for field in fields})
+            self.assertIsInstance(made, ValueError)
+
+    def test_there_is_no_other_error(self):
+        classes = [name for name, value in vars(errors).items() if inspect.isclass(value)]
+        self.assertEqual(sorted(classes), sorted([*ERRORS, "LifeError"]))
+
+
+if __name__ == "__main__":
+    unittest.main()
