@@ -1,6 +1,9 @@
 """Whether values are of the kinds that the document allows, and the errors for those that are not."""
 
-from onelife.errors import BadLengths, BadLife, BadMachine, BadMarks, BadNumber, BadRows, BadTable, BadWeights
+from onelife.errors import (
+    BadHeard, BadLengths, BadLife, BadMachine, BadManner, BadMarks, BadNumber, BadRows, BadString, BadTable, BadWeights)
+
+MANNERS = ("sealed", "late", "early", "counted", "open")
 
 
 def is_number(value):
@@ -121,3 +124,39 @@ def check_weights(weights):
     """Raise BadWeights for a value that is no tuple of weights."""
     if not are_integers(weights, 12, 0, 1000):
         raise BadWeights("no tuple of 1 to 12 integers from 0 to 1000")
+
+
+def check_chances(machine, weights):
+    """Raise BadWeights for a value that is no chances of a machine."""
+    if not is_tuple(weights, len(machine), len(machine)):
+        raise BadWeights("no tuple of so many things as there are states")
+    for state, numbers in zip(machine, weights):
+        fits = is_tuple(numbers, len(state), len(state)) and all(is_within(number, 1, 1000) for number in numbers)
+        if not fits:
+            raise BadWeights("no tuple of an integer from 1 to 1000 for each option of a state")
+
+
+def check_manner(manner):
+    """Raise BadManner for a value that is no manner."""
+    if manner not in MANNERS:
+        raise BadManner("no manner")
+
+
+def check_string(text):
+    """Raise BadString for a value that is no string."""
+    if not isinstance(text, str):
+        raise BadString("no string")
+
+
+def is_heard_pair(value):
+    """Whether a value is a pair of a number and a word that can have been heard."""
+    return is_tuple(value, 2, 2) and is_within(value[0], 0, 320) and is_word(value[1])
+
+
+def check_heard(heard):
+    """Raise BadHeard for a value that is not what was heard."""
+    if not is_tuple(heard, 0, 40):
+        raise BadHeard(None)
+    for index, pair in enumerate(heard):
+        if not is_heard_pair(pair):
+            raise BadHeard(index)

@@ -31,6 +31,13 @@ def beginnings(rows):
     return found
 
 
+def gaps(marks, rows):
+    """The fewest rows more with which rows are full, ascending: one for each mark that lacks behind a beginning."""
+    begun = beginnings(rows)
+    followed = [beginning + (mark,) for beginning in begun if beginning not in rows for mark in range(marks)]
+    return sorted([row for row in followed if row not in begun])
+
+
 def power(base, times):
     """The product of so many times the base."""
     result = 1

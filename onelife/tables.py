@@ -1,7 +1,7 @@
 """Tables of turns (points 3 and 4)."""
 
 from onelife.checks import check_life, check_marks, check_rows, check_setting
-from onelife.rows import beginnings, first_clash, power, ratio
+from onelife.rows import first_clash, gaps, power, ratio
 from onelife.walks import coming_states, marks_along, told_along
 
 LONGEST_ROW = 8
@@ -45,6 +45,4 @@ def is_full(marks, rows):
     """Whether each mark behind each beginning of a row that is no row is again a beginning of a row."""
     check_marks(marks)
     check_rows(rows, marks)
-    begun = beginnings(rows)
-    open_ones = [beginning for beginning in begun if beginning not in rows]
-    return all([beginning + (mark,) in begun for beginning in open_ones for mark in range(marks)])
+    return not gaps(marks, rows)

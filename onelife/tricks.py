@@ -3,8 +3,8 @@
 from onelife.checks import check_life, check_setting
 from onelife.errors import BadStory, NotAlong, TooMany
 from onelife.rows import are_along
+from onelife.stories import BIRTH, lived
 from onelife.walks import marks_along, path_of, words_along
-from onelife.worlds import BIRTH, lived
 
 MOST_MARKS = 20
 

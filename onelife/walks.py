@@ -46,11 +46,16 @@ def told_along(machine, table, life):
 
 def coming_states(machine):
     """The states to which lives lead, ascending."""
-    found = {0: True}
-    waiting = [0]
+    return states_from(machine, 0)
+
+
+def states_from(machine, state):
+    """The states to which options lead from a state, itself included, ascending."""
+    found = {state: True}
+    waiting = [state]
     while waiting:
-        state = waiting.pop()
-        for target, _ in machine[state]:
+        place = waiting.pop()
+        for target, _ in machine[place]:
             if target not in found:
                 found[target] = True
                 waiting.append(target)

@@ -5,22 +5,51 @@ import importlib
 import unittest
 from itertools import combinations
 
-from onelife.errors import BadLengths, BadLife, BadMachine, BadMarks, BadNumber, BadRows, BadStory, BadTable, BadWeights
+from onelife.errors import (
+    BadHeard, BadHouse, BadLengths, BadLife, BadMachine, BadManner, BadMarks, BadNumber, BadProgram, BadRows, BadStory,
+    BadString, BadTable, BadWeights)
 from tests.test_interface import FUNCTIONS
 from tests.tools import BIRTH, Case
 
 MACHINE = (((1, "a"), (0, None)), ((1, "b"), (0, "b")))
 TABLE = (((0, 1), (1, 1)), ((1,), (0, 1)))
 STORY = (("boot", BIRTH), ("ask", 1), ("turn",), ("cut",), ("boot", (1, 1, (1,), 1)), ("turn",), ("ask", 0))
+LED_STORY = (("boot", (0, None, (), ())), ("go", 0), ("cut",), ("boot", (1, 0, (), (0,))), ("go", 1), ("go", 0))
+CHANCES = ((1, 3), (2, 1))
+CELLS = (("a", 3), ("b", 2))
+PROGRAM = (CELLS, (
+    ("set", "a", "b", 1), ("set", "b", None, 1), ("while", ("b", True, 1), (("say", "x"), ("set", "b", None, 0))),
+    ("if", ("a", False, 0), (("choose", (("y", (("stop",),)), (None, ()))),), (("stop",),))))
+TILL = ((1, 0, 1), 1, (("pay", 0, 1), ("pay", 0, 2), ("give", 1), ("take", 0)))
+# One coin is paid to two persons.
+CHEAT = ((1, 0, 0), 0, (("pay", 0, 1), ("pay", 0, 2)))
+CHEAT_TABLE = (((0,), (0,)), (), ())
+TWICE = (("boot", BIRTH), ("ask", 0), ("cut",), ("boot", BIRTH), ("ask", 1), ("turn",), ("cut",), ("boot", (1, 0, (0,), 1)))
 
 GOOD = {
     "machine": MACHINE, "marks": 2, "table": TABLE, "life": (0, 1), "one": (0, 0, 1), "other": (0, 0), "length": 1,
-    "rows": ((0, 1), (1,)), "story": STORY, "many": 1, "lengths": (2, 1, 3), "weights": (1, 0, 7), "most": 1}
+    "rows": ((0, 1), (1,)), "story": STORY, "many": 1, "lengths": (2, 1, 3), "weights": (1, 0, 7), "most": 1,
+    "manner": "late", "text": "", "program": PROGRAM, "till": TILL, "heard": ((1, "givea"), (0, "payab"))}
+
+# What is good for functions of some files or names, ahead of what is good for all.
+GOOD_FOR = {
+    "joined": {"one": MACHINE, "other": MACHINE}, "led": {"story": LED_STORY}, "harms": {"most": 4},
+    "means": {"weights": CHANCES}, "read_machine": {"text": "= 0"}, "programs": {"life": (0, 0)},
+    "most_too_much": {"till": CHEAT, "table": CHEAT_TABLE, "most": 9},
+    "shows_worst": {"till": CHEAT, "table": CHEAT_TABLE, "most": 8}}
 
 ERRORS = {
     "machine": BadMachine, "marks": BadMarks, "table": BadTable, "life": BadLife, "one": BadLife, "other": BadLife,
     "length": BadNumber, "rows": BadRows, "story": BadStory, "many": BadNumber, "lengths": BadLengths,
-    "weights": BadWeights, "most": BadNumber}
+    "weights": BadWeights, "most": BadNumber, "manner": BadManner, "text": BadString, "program": BadProgram,
+    "till": BadHouse, "heard": BadHeard}
+ERRORS_FOR = {"joined": {"one": BadMachine, "other": BadMachine}}
+
+# The functions that make what those whose names begin with shows are to show.
+MAKERS = {
+    "shows_parting": "pairs.parting", "shows_closed": "pairs.closed_paper", "shows_story": "tricks.story_of",
+    "shows_cheapest": "codes.cheapest_rows", "shows_least_table": "searches.least_table",
+    "shows_harm": "harms.harm_of", "shows_cheapest_table": "means.cheapest_table"}
 
 # Values that are wrong for each argument, and values that hash and compare in unlike ways.
 WRONG = (None, True, False, -1, 41, 10 ** 30, "", "abc", [], [1], {}, {"a": [1]}, {(1, 2): None}, (None,), (True,), ([],),
@@ -37,16 +66,18 @@ def every_function():
 
 def good_arguments(function, names):
     """Arguments without an error; of a function that shows something, the last one is a value that it shows."""
-    arguments = [GOOD[name] for name in names if name != "value"]
+    module, own = function.__module__.split(".")[1], function.__name__
+    good = {**GOOD, **GOOD_FOR.get(module, {}), **GOOD_FOR.get(own, {})}
+    arguments = [good[name] for name in names if name != "value"]
     if "value" in names:
         arguments.append(shown_value(function, arguments))
     return arguments
 
 
 def shown_value(function, arguments):
-    makers = {"shows_parting": "pairs.parting", "shows_closed": "pairs.closed_paper", "shows_story": "tricks.story_of",
-              "shows_cheapest": "codes.cheapest_rows", "shows_least_table": "searches.least_table"}
-    module, name = makers[function.__name__].split(".")
+    if function.__name__ == "shows_worst":
+        return TWICE
+    module, name = MAKERS[function.__name__].split(".")
     return getattr(importlib.import_module("onelife." + module), name)(*arguments)
 
 
@@ -60,7 +91,7 @@ def changed_once(value, change):
 
 
 def as_truth_value(value):
-    return bool(value) if isinstance(value, int) and value in (0, 1) else None
+    return bool(value) if isinstance(value, int) and not isinstance(value, bool) and value in (0, 1) else None
 
 
 def as_list(value):
@@ -103,12 +134,15 @@ class ArgumentsTest(Case):
             return
         with self.assertRaises(ValueError) as caught:
             function(*arguments)
-        self.assertEqual(type(caught.exception).__name__, ERRORS[names[at]].__name__, (function, arguments))
+        wanted = ERRORS_FOR.get(function.__name__, ERRORS)[names[at]]
+        self.assertEqual(type(caught.exception).__name__, wanted.__name__, (function, arguments))
 
     def test_wrong_values(self):
         for function, names in every_function():
             for at in range(len(names)):
                 for value in WRONG:
+                    if names[at] == "text" and isinstance(value, str):
+                        continue
                     arguments = good_arguments(function, names)
                     arguments[at] = value
                     self.expect(function, names, arguments, at)
@@ -121,7 +155,7 @@ class ArgumentsTest(Case):
                 for value in changed_once(argument, as_truth_value):
                     self.expect(function, names, good[:at] + [value] + good[at + 1:], at)
                     changed += 1
-        self.assertGreater(changed, 300)
+        self.assertGreater(changed, 600)
 
     def test_lists_are_no_tuples(self):
         for function, names in every_function():

@@ -2,7 +2,7 @@
 
 import unittest
 
-EXAMPLES = """
+EXAMPLES = r"""
 # onelife/machines.py
 >>> from onelife.machines import can_come, end_of, is_loud, lives, words_of
 >>> coin = (((0, "yes"), (0, "no")),)
@@ -63,6 +63,79 @@ raises NotAlong()
 >>> coin = (((0, "yes"), (0, "no")),)
 >>> [least_table(coin, 1, 3), shows_least_table(coin, 2, 1, (((1,), (0,)),)), shows_least_table(coin, 2, 1, (((0,), (0,)),))]
 [None, True, False]
+# onelife/boxes.py
+>>> from onelife.boxes import gathered, joined
+>>> gathered((((0, "a"), (0, "b")),), 2)
+(((0, 'aa'), (0, 'ab'), (0, 'ba'), (0, 'bb')),)
+>>> joined((((0, "a"),),), (((1, "b"),), ()))
+(((0, 'a'), (1, 'b')), ((1, 'a'),))
+# onelife/led.py
+>>> from onelife.led import death_of, filled, led_heard, led_is_dead, never_dies
+>>> coin = (((0, "yes"), (0, "no")),)
+>>> table = (((0,), (1,)),)
+>>> story = (("boot", (0, None, (), ())), ("go", 1), ("go", 0))
+>>> [led_heard(coin, 2, table, story), never_dies(coin, 2, table), death_of(coin, 3, table), led_is_dead(coin, 3, table, story[:1] + (("go", 2),))]
+[((1, 'no'), (2, 'yes')), True, (2,), True]
+>>> filled(coin, 3, table)
+((((0, 'yes'), (0, 'no'), (0, None)),), (((0,), (1,), (2,)),))
+>>> never_dies(coin, 2, (((0,), (0, 1)),))
+raises NotApart(state=0)
+# onelife/harms.py
+>>> from onelife.harms import harm_of, shows_harm
+>>> coin = (((0, "yes"), (0, "no")),)
+>>> table = (((0,), (1,)),)
+>>> [harm_of(coin, 2, table, "sealed", 6), shows_harm(coin, 2, table, "late", 6, ("dead", (("boot", (0, None, (), 0)), ("ask", 0), ("turn",))))]
+[None, True]
+>>> [harm_of(coin, 2, table, "open", 7)[0], harm_of(coin, 2, table, "early", 4)]
+['two lives', None]
+# onelife/texts.py
+>>> from onelife.texts import read_machine, write_machine
+>>> coin = (((0, "yes"), (0, "no")),)
+>>> table = (((0,), (1,)),)
+>>> [write_machine(coin, table), read_machine(" = 0\n -  0 1")]
+['= 0\nyes 0 0\nno 0 1', ((((0, None),),), (((1,),),))]
+>>> read_machine("= 0\nyes 1 0")
+raises BadLine(line=2, word=2)
+# onelife/benches.py
+>>> from onelife.benches import Bench
+>>> coin = (((0, "yes"), (0, "no")),)
+>>> table = (((0,), (1,)),)
+>>> bench = Bench(coin, 2, table)
+>>> [bench.boot((0, None, (), 0)), bench.ask(1), bench.turn(), bench.wheel, bench.told, bench.harm(), bench.fitting()]
+[(), (), ((1, 'no'),), (1, 1), ((1, 'no'),), None, ((1, 1, (1,), 1),)]
+>>> bench.seal()
+raises BadStep()
+# onelife/means.py
+>>> from onelife.means import cheapest_table, mean_pace, mean_total, shows_cheapest_table
+>>> game = (((0, "on"), (1, "end")), ())
+>>> [mean_total(game, 2, (((0,), (1, 0)), ()), ((1, 1), ())), mean_pace(game, 2, (((0,), (1, 0)), ()), ((1, 1), ())), mean_total(game, 2, (((0,), (1,)), ()), ((3, 1), ()))]
+[(3, 1), None, (4, 1)]
+>>> coin = (((0, "yes"), (0, "no"), (0, "stay")),)
+>>> [mean_pace(coin, 2, (((0,), (1, 0), (1, 1)),), ((2, 1, 1),)), shows_cheapest_table(coin, 2, ((2, 1, 1),), (((1,), (0, 0), (0, 1)),)), cheapest_table((((0, "a"),),), 2, ((5,),))]
+[(3, 2), True, (((0,),),)]
+# onelife/programs.py
+>>> from onelife.programs import cells_after, machine_of, said
+>>> program = ((("coins", 3),), (("while", ("coins", False, 2), (("choose", (("put", (("set", "coins", "coins", 1),)), ("wait", ()))),)), ("say", "full")))
+>>> [said(program, (0, 1, 0)), cells_after(program, (0, 1, 0)), said(program, (0, 0, 0)), machine_of(program)]
+[('put', 'wait', 'put'), (2,), ('put', 'put', 'full'), (((1, 'put'), (0, 'wait')), ((2, 'put'), (1, 'wait')), ((3, 'full'),), ())]
+# onelife/readers.py
+>>> from onelife.programs import write_program
+>>> from onelife.readers import read_program
+>>> program = read_program("cell a 2\nif a = 0\nset a 1\nelse\nsay no\nend")
+>>> [program, write_program(program)]
+[((('a', 2),), (('if', ('a', True, 0), (('set', 'a', None, 1),), (('say', 'no'),)),)), 'cell a 2\nif a = 0\nset a 1\nelse\nsay no\nend']
+>>> from onelife.readers import read_program
+>>> read_program("say no\nend")
+raises BadLine(line=2, word=1)
+# onelife/tills.py
+>>> from onelife.tills import held_by, till_machine, till_stands
+>>> till = ((1, 0, 0), 1, (("pay", 0, 1), ("pay", 0, 2), ("give", 0), ("take", 1)))
+>>> [till_machine(till)[0], till_stands(till)[1], held_by(till, ((2, "takeb"), (1, "givea"), (1, "givea")))]
+[((1, 'payab'), (2, 'payac'), (3, 'givea')), ((0, 1, 0), 0), ((0, 1, 0), 0)]
+>>> from onelife.tills import held_by, too_much
+>>> till = ((1, 0, 0), 1, (("pay", 0, 1), ("pay", 0, 2)))
+>>> [held_by(till, ((1, "payab"), (1, "payac"))), too_much(till, ((1, "payab"), (1, "payac")))]
+[None, 1]
 """
 
 
@@ -101,7 +174,7 @@ class ExamplesTest(unittest.TestCase):
             self.assertGreater(wanted, 0, name)
 
     def test_all_files_are_there(self):
-        self.assertEqual(len(blocks()), 7)
+        self.assertEqual(len(blocks()), 16)
 
 
 if __name__ == "__main__":

@@ -14,7 +14,7 @@ NODES_BARRED = (
     ast.AnnAssign, ast.With, ast.Match, ast.Set, ast.SetComp)
 BUILTINS = {
     "len", "range", "enumerate", "zip", "min", "max", "sum", "abs", "sorted", "reversed", "int", "str", "bool", "list",
-    "tuple", "dict", "set", "isinstance", "ord", "repr", "any", "all", "divmod", "super", "ValueError"}
+    "tuple", "dict", "set", "isinstance", "ord", "repr", "any", "all", "divmod", "super", "property", "ValueError"}
 METHODS = {
     "append", "clear", "copy", "count", "endswith", "extend", "find", "get", "index", "insert", "items", "join", "keys",
     "lower", "pop", "remove", "replace", "reverse", "setdefault", "split", "startswith", "strip", "update", "values"}
@@ -94,7 +94,8 @@ class FormTest(unittest.TestCase):
             if isinstance(node.value, str):
                 self.assertNotIn("%", node.value, path)
         for path, node in nodes((ast.FunctionDef, ast.ClassDef)):
-            self.assertEqual(node.decorator_list, [], path)
+            decorators = [getattr(decorator, "id", None) for decorator in node.decorator_list]
+            self.assertIn(decorators, ([], ["property"]), (path, node.name))
             self.assertTrue(node.name.startswith("_") or ast.get_docstring(node), (path, node.name))
         for path, node in nodes(ast.BinOp):
             if isinstance(node.op, ast.Pow):
@@ -150,6 +151,28 @@ class FormTest(unittest.TestCase):
         attributes = {node.attr for _, node in nodes(ast.Attribute) if isinstance(node.ctx, ast.Store)}
         self.assertFalse(attributes & own)
         self.assertFalse(attributes & (METHODS - {"count", "index", "find", "get", "join", "lower", "split", "strip", "copy"}))
+
+    def test_properties_have_names_of_their_own(self):
+        methods = [node for _, kind in nodes(ast.ClassDef) for node in kind.body if isinstance(node, ast.FunctionDef)]
+        properties = [node.name for node in methods if node.decorator_list]
+        self.assertEqual(len(properties), len(set(properties)))
+        others = {node.name for node in methods if not node.decorator_list} | METHODS
+        others |= {node.attr for _, node in nodes(ast.Attribute) if isinstance(node.ctx, ast.Store)}
+        self.assertFalse(set(properties) & others)
+
+    def test_each_attribute_is_assigned_or_a_method(self):
+        given = {node.attr for _, node in nodes(ast.Attribute) if isinstance(node.ctx, ast.Store)}
+        given |= {node.name for _, node in nodes(ast.FunctionDef)} | METHODS
+        for path, node in nodes(ast.Attribute):
+            self.assertIn(node.attr, given, path)
+
+    def test_sets_are_only_measured_and_sorted(self):
+        for path, tree in trees():
+            fine = [node.args[0] for node in ast.walk(tree) if isinstance(node, ast.Call)
+                    and isinstance(node.func, ast.Name) and node.func.id in ("len", "sorted")]
+            for node in ast.walk(tree):
+                if isinstance(node, ast.Call) and isinstance(node.func, ast.Name) and node.func.id == "set":
+                    self.assertIn(node, fine, (path, node.lineno))
 
     def test_is_only_with_none_and_truth_values(self):
         for path, node in nodes(ast.Compare):

@@ -5,6 +5,7 @@ import inspect
 import unittest
 
 from onelife import errors
+from onelife.benches import Bench
 
 FUNCTIONS = {
     "machines": {
@@ -27,6 +28,22 @@ FUNCTIONS = {
         "rows_for": "marks, lengths", "cheapest_rows": "marks, weights", "shows_cheapest": "marks, weights, value",
         "loud_table": "machine, marks"},
     "searches": {"least_table": "machine, marks, most", "shows_least_table": "machine, marks, most, value"},
+    "boxes": {"gathered": "machine, many", "joined": "one, other"},
+    "led": {
+        "led_heard": "machine, marks, table, story", "led_is_dead": "machine, marks, table, story",
+        "never_dies": "machine, marks, table", "death_of": "machine, marks, table", "filled": "machine, marks, table"},
+    "harms": {
+        "harm_of": "machine, marks, table, manner, most", "shows_harm": "machine, marks, table, manner, most, value"},
+    "texts": {"write_machine": "machine, table", "read_machine": "text"},
+    "means": {
+        "mean_total": "machine, marks, table, weights", "mean_pace": "machine, marks, table, weights",
+        "cheapest_table": "machine, marks, weights", "shows_cheapest_table": "machine, marks, weights, value"},
+    "programs": {
+        "said": "program, life", "cells_after": "program, life", "machine_of": "program", "write_program": "program"},
+    "readers": {"read_program": "text"},
+    "tills": {
+        "till_machine": "till", "till_stands": "till", "held_by": "till, heard", "too_much": "till, heard",
+        "most_too_much": "till, marks, table, most", "shows_worst": "till, marks, table, most, value"},
 }
 
 ERRORS = {
@@ -37,6 +54,10 @@ ERRORS = {
 }
 
 
+BENCH_METHODS = {"boot": ["note"], "ask": ["option"], "turn": [], "cut": [], "seal": [], "harm": [], "fitting": []}
+BENCH_PROPERTIES = ("wheel", "shelf", "stand", "told", "story")
+
+
 class InterfaceTest(unittest.TestCase):
     def test_functions_are_defined_where_they_are_listed(self):
         for module, functions in FUNCTIONS.items():
@@ -45,6 +66,18 @@ class InterfaceTest(unittest.TestCase):
                 function = getattr(found, name)
                 self.assertEqual(function.__module__, "onelife." + module)
                 self.assertEqual(", ".join(inspect.signature(function).parameters), arguments, name)
+
+    def test_bench_defines_its_methods_and_properties_itself(self):
+        self.assertEqual(Bench.__module__, "onelife.benches")
+        made = inspect.signature(Bench)
+        self.assertEqual(list(made.parameters), ["machine", "marks", "table", "manner"])
+        self.assertEqual(made.parameters["manner"].default, "sealed")
+        for name, arguments in BENCH_METHODS.items():
+            method = vars(Bench)[name]
+            self.assertEqual(list(inspect.signature(method).parameters), ["self"] + arguments, name)
+        for name in BENCH_PROPERTIES:
+            self.assertIsInstance(vars(Bench)[name], property)
+            self.assertIsNone(vars(Bench)[name].fset)
 
     def test_errors_are_direct_subclasses_with_their_fields(self):
         self.assertEqual(errors.LifeError.__bases__, (ValueError,))
