@@ -187,7 +187,8 @@ class LedStoryTest(Case):
             lives = sorted(set(longer))
         return False
 
-    def test_two_hundred_steps(self):
+    def test_no_steps_and_two_hundred(self):
+        self.same([led_heard(COIN, 2, COIN_TABLE, ()), led_is_dead(COIN, 2, COIN_TABLE, ())], [(), False])
         story = going((0,) * 199)
         self.assertEqual(len(led_heard(COIN, 2, COIN_TABLE, story)), 199)
         self.same(led_is_dead(COIN, 2, COIN_TABLE, story), False)
