@@ -244,6 +244,14 @@ class DeathTest(Case):
         table = (((0,), (1,)), (), ((0, 0),))
         self.same([never_dies(machine, 2, table), death_of(machine, 2, table)], [True, None])
 
+    def test_a_death_that_is_far_away(self):
+        # The rows by which the states lead on have five marks each, so that the last state comes after 195 of them.
+        full = ((1,), (0, 1), (0, 0, 1), (0, 0, 0, 1), (0, 0, 0, 0, 1), (0, 0, 0, 0, 0))
+        machine = tuple([((0, None),) * 4 + ((at + 1, None),) * 2 for at in range(39)]) + (((0, None),) * 6,)
+        self.same(death_of(machine, 2, (full,) * 39 + (full[:5] + ((0,) * 6,),)), (0,) * 195 + (0, 0, 0, 0, 0, 1))
+        self.same(never_dies(machine, 2, (full,) * 39 + (full[:5] + ((0,) * 6,),)), False)
+        self.same(never_dies(machine, 2, (full,) * 40), True)
+
     def test_against_all_led_stories(self):
         found = {True: 0, False: 0}
         for machine, marks, table in settings(161, 500, marks=3, longest=3):
