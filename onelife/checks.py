@@ -1,7 +1,8 @@
 """Whether values are of the kinds that the document allows, and the errors for those that are not."""
 
 from onelife.errors import (
-    BadHeard, BadLengths, BadLife, BadMachine, BadManner, BadMarks, BadNumber, BadRows, BadString, BadTable, BadWeights)
+    BadHeard, BadLengths, BadLife, BadMachine, BadManner, BadMarks, BadNumber, BadRows, BadSpelled, BadString, BadTable,
+    BadWeights)
 
 MANNERS = ("sealed", "late", "early", "counted", "open")
 
@@ -160,3 +161,9 @@ def check_heard(heard):
     for index, pair in enumerate(heard):
         if not is_heard_pair(pair):
             raise BadHeard(index)
+
+
+def check_spelled(marks, spelled):
+    """Raise BadSpelled for a value that is no tuple of 0 to 40 of these marks."""
+    if not is_tuple(spelled, 0, 40) or not all([is_within(mark, 0, marks - 1) for mark in spelled]):
+        raise BadSpelled(f"no tuple of 0 to 40 of {marks} marks")

@@ -2,6 +2,7 @@
 
 from onelife.checks import is_tuple, is_within
 from onelife.errors import BadLife, TooMany
+from onelife.numberings import Numbering
 from onelife.parts import check_program
 from onelife.runs import Script
 
@@ -43,21 +44,14 @@ def machine_of(program):
     """The machine that a program is."""
     check_program(program)
     script = Script(program)
-    stands = [script.first_stand()]
-    numbers = {stands[0]: 0}
+    stands = Numbering(script.first_stand())
     machine = []
-    while len(machine) < min(len(stands), MOST_STATES):
-        stand = stands[len(machine)]
-        options = []
-        for word, todo in script.ways_from(stand):
-            following = script.stand_from(stand[0], todo)
-            if following not in numbers:
-                numbers[following] = len(stands)
-                stands.append(following)
-            options.append((numbers[following], word))
-        machine.append(tuple(options))
+    while len(machine) < min(len(stands.numbered), MOST_STATES):
+        stand = stands.numbered[len(machine)]
+        behind = [(script.stand_from(stand[0], todo), word) for word, todo in script.ways_from(stand)]
+        machine.append(tuple([(stands.number_of(following), word) for following, word in behind]))
     # Asked only now, because a run without an end behind one of the first states comes ahead of it.
-    if len(stands) > MOST_STATES:
+    if len(stands.numbered) > MOST_STATES:
         raise TooMany(MOST_STATES)
     return tuple(machine)
 

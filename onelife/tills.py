@@ -2,6 +2,7 @@
 
 from onelife.checks import are_integers, check_heard, check_marks, check_number, check_table, is_tuple, is_within
 from onelife.errors import BadHouse, BadStory, TooMany
+from onelife.numberings import Numbering
 from onelife.stories import World, lived
 
 MOST_STATES = 40
@@ -72,22 +73,14 @@ def till_stands(till):
 
 
 def _stands_told(till):
-    stands = [(till[0], 0)]
-    numbers = {stands[0]: 0}
+    stands = Numbering((till[0], 0))
     machine = []
-    while len(machine) < len(stands):
-        options = []
-        for deed in till[2]:
-            following = stand_behind(till, stands[len(machine)], deed)
-            if following is not None:
-                if following not in numbers:
-                    numbers[following] = len(stands)
-                    stands.append(following)
-                options.append((numbers[following], word_of(deed)))
-        if len(stands) > MOST_STATES:
+    while len(machine) < len(stands.numbered):
+        behind = [(stand_behind(till, stands.numbered[len(machine)], deed), word_of(deed)) for deed in till[2]]
+        machine.append(tuple([(stands.number_of(stand), word) for stand, word in behind if stand is not None]))
+        if len(stands.numbered) > MOST_STATES:
             raise TooMany(MOST_STATES)
-        machine.append(tuple(options))
-    return tuple(machine), tuple(stands)
+    return tuple(machine), tuple(stands.numbered)
 
 
 def held_by(till, heard):

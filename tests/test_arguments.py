@@ -6,8 +6,9 @@ import unittest
 from itertools import combinations
 
 from onelife.errors import (
-    BadHeard, BadHouse, BadLengths, BadLife, BadMachine, BadManner, BadMarks, BadNumber, BadProgram, BadRows, BadStory,
-    BadString, BadTable, BadWeights)
+    BadHeard, BadHouse, BadLengths, BadLife, BadMachine, BadManner, BadMarks, BadNumber, BadProgram, BadRows, BadSpelled,
+    BadStory, BadString, BadTable, BadWeights)
+from onelife.ports import port_machine
 from tests.test_interface import FUNCTIONS
 from tests.tools import BIRTH, Case
 
@@ -25,15 +26,26 @@ TILL = ((1, 0, 1), 1, (("pay", 0, 1), ("pay", 0, 2), ("give", 1), ("take", 0)))
 CHEAT = ((1, 0, 0), 0, (("pay", 0, 1), ("pay", 0, 2)))
 CHEAT_TABLE = (((0,), (0,)), (), ())
 TWICE = (("boot", BIRTH), ("ask", 0), ("cut",), ("boot", BIRTH), ("ask", 1), ("turn",), ("cut",), ("boot", (1, 0, (0,), 1)))
+OTHER_TABLE = (((1,), (0, 1, 0)), ((0, 1, 1), (1,)))
+PORTS = (0, 1, 1, False)
+LANES = [tuple([((0,), (1, 0))[:len(state)] for state in port_machine(PORTS, side)]) for side in (0, 1)]
+BOTH = tuple([(1, step) for step in (("boot", BIRTH), ("ask", 0), ("turn",), ("cut",))]
+             + [(0, step) for step in (("boot", BIRTH), ("ask", 0), ("turn",))])
 
 GOOD = {
     "machine": MACHINE, "marks": 2, "table": TABLE, "life": (0, 1), "one": (0, 0, 1), "other": (0, 0), "length": 1,
     "rows": ((0, 1), (1,)), "story": STORY, "many": 1, "lengths": (2, 1, 3), "weights": (1, 0, 7), "most": 1,
-    "manner": "late", "text": "", "program": PROGRAM, "till": TILL, "heard": ((1, "givea"), (0, "payab"))}
+    "manner": "late", "text": "", "program": PROGRAM, "till": TILL, "heard": ((1, "givea"), (0, "payab")),
+    "first": TABLE, "second": OTHER_TABLE, "spelled": (0, 1, 1), "options": 2, "turns": 3, "number": 1, "teeth": 1,
+    "long": 1, "ports": PORTS, "side": 1}
 
 # What is good for functions of some files or names, ahead of what is good for all.
 GOOD_FOR = {
-    "joined": {"one": MACHINE, "other": MACHINE}, "led": {"story": LED_STORY}, "harms": {"most": 4},
+    "joined": {"one": MACHINE, "other": MACHINE}, "unions": {"one": MACHINE, "other": MACHINE[:1] + ((),)},
+    "joined_table": {"second": OTHER_TABLE[:1] + ((),)}, "led": {"story": LED_STORY}, "harms": {"most": 4},
+    "witnesses": {"heard": ((4, "b"), (2, "a"), (4, "b"))}, "budgets": {"one": TABLE, "other": OTHER_TABLE},
+    "ports": {"one": LANES[0], "other": LANES[1], "story": BOTH, "life": (1, 0, 0), "most": 6},
+    "shows_coins": {"most": 7},
     "means": {"weights": CHANCES}, "read_machine": {"text": "= 0"}, "programs": {"life": (0, 0)},
     "most_too_much": {"till": CHEAT, "table": CHEAT_TABLE, "most": 9},
     "shows_worst": {"till": CHEAT, "table": CHEAT_TABLE, "most": 8}}
@@ -42,14 +54,22 @@ ERRORS = {
     "machine": BadMachine, "marks": BadMarks, "table": BadTable, "life": BadLife, "one": BadLife, "other": BadLife,
     "length": BadNumber, "rows": BadRows, "story": BadStory, "many": BadNumber, "lengths": BadLengths,
     "weights": BadWeights, "most": BadNumber, "manner": BadManner, "text": BadString, "program": BadProgram,
-    "till": BadHouse, "heard": BadHeard}
-ERRORS_FOR = {"joined": {"one": BadMachine, "other": BadMachine}}
+    "till": BadHouse, "heard": BadHeard, "first": BadTable, "second": BadTable, "spelled": BadSpelled,
+    "options": BadNumber, "turns": BadNumber, "number": BadNumber, "teeth": BadNumber, "long": BadNumber,
+    "ports": BadHouse, "side": BadNumber}
+MACHINES, TABLES = [{"one": error, "other": error} for error in (BadMachine, BadTable)]
+ERRORS_FOR = {"joined": MACHINES, "unions": MACHINES, "budgets": TABLES, "ports": TABLES}
+# Numbers that may be as large as 2000.
+LARGE = ("options", "turns", "teeth")
 
 # The functions that make what those whose names begin with shows are to show.
 MAKERS = {
     "shows_parting": "pairs.parting", "shows_closed": "pairs.closed_paper", "shows_story": "tricks.story_of",
     "shows_cheapest": "codes.cheapest_rows", "shows_least_table": "searches.least_table",
     "shows_harm": "harms.harm_of", "shows_cheapest_table": "means.cheapest_table"}
+
+# What these functions show cannot be made by a function.
+SHOWN = {"shows_worst": TWICE, "shows_coins": BOTH}
 
 # Values that are wrong for each argument, and values that hash and compare in unlike ways.
 WRONG = (None, True, False, -1, 41, 10 ** 30, "", "abc", [], [1], {}, {"a": [1]}, {(1, 2): None}, (None,), (True,), ([],),
@@ -75,10 +95,26 @@ def good_arguments(function, names):
 
 
 def shown_value(function, arguments):
-    if function.__name__ == "shows_worst":
-        return TWICE
+    if function.__name__ in SHOWN:
+        return SHOWN[function.__name__]
     module, name = MAKERS[function.__name__].split(".")
     return getattr(importlib.import_module("onelife." + module), name)(*arguments)
+
+
+def wrong_for(function, name):
+    """Values that are wrong for an argument of a function."""
+    if name == "text":
+        return [value for value in WRONG if not isinstance(value, str)]
+    if name in LARGE and function.__name__ != "nth_life":
+        return [value for value in WRONG if value != 41]
+    if function.__name__ == "write_story":
+        return [value for value in WRONG if value != (("cut",),)]
+    return list(WRONG)
+
+
+def error_for(function, name):
+    wanted = {**ERRORS, **ERRORS_FOR.get(function.__module__.split(".")[1], {}), **ERRORS_FOR.get(function.__name__, {})}
+    return wanted[name]
 
 
 def changed_once(value, change):
@@ -134,15 +170,13 @@ class ArgumentsTest(Case):
             return
         with self.assertRaises(ValueError) as caught:
             function(*arguments)
-        wanted = ERRORS_FOR.get(function.__name__, ERRORS)[names[at]]
+        wanted = error_for(function, names[at])
         self.assertEqual(type(caught.exception).__name__, wanted.__name__, (function, arguments))
 
     def test_wrong_values(self):
         for function, names in every_function():
             for at in range(len(names)):
-                for value in WRONG:
-                    if names[at] == "text" and isinstance(value, str):
-                        continue
+                for value in wrong_for(function, names[at]):
                     arguments = good_arguments(function, names)
                     arguments[at] = value
                     self.expect(function, names, arguments, at)

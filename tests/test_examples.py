@@ -1,4 +1,4 @@
-"""The examples of the interface, for each module that has landed."""
+"""The examples of the interface, for each of its modules."""
 
 import unittest
 
@@ -136,6 +136,82 @@ raises BadLine(line=2, word=1)
 >>> till = ((1, 0, 0), 1, (("pay", 0, 1), ("pay", 0, 2)))
 >>> [held_by(till, ((1, "payab"), (1, "payac"))), too_much(till, ((1, "payab"), (1, "payac")))]
 [None, 1]
+# onelife/witnesses.py
+>>> from onelife.witnesses import least_lot, one_life
+>>> machine = (((1, "go"), (2, "stay")), ((0, "back"),), ())
+>>> table = (((0,), (1,)), ((0, 0),), ())
+>>> [one_life(machine, 2, table, ((4, "stay"), (1, "go"))), least_lot(machine, 2, table, ((4, "stay"), (1, "stay")))]
+[(0, 0, 1), ((1, 'stay'), (4, 'stay'))]
+# onelife/reports.py
+>>> from onelife.reports import read_story, report, write_story
+>>> machine = (((0, "yes"), (0, "no")),)
+>>> table = (((0,), (1,)),)
+>>> story = (("boot", (0, None, (), 0)), ("ask", 0), ("turn",), ("cut",))
+>>> [report(machine, 2, table, story)[2], write_story(story), read_story(write_story(story)) == story]
+['turn 1 by mark 0: at the choice of state 0, says yes at 1', 'boot 0 - - 0\nask 0\nturn\ncut', True]
+>>> from onelife.reports import tell_lives
+>>> machine = (((0, "yes"), (0, "no")),)
+>>> table = (((0,), (1,)),)
+>>> tell_lives(machine, 2, table, (0, 0), (0, 1))
+('one says yes at 1, yes at 2', 'the other says yes at 1, no at 2', 'both turn 0', 'they turn otherwise at turn 2')
+# onelife/unions.py
+>>> from onelife.unions import joined_table, parted_life
+>>> one, other = (((0, "a"),),), (((0, "b"),),)
+>>> [joined_table(one, other, 2, (((0,),),), (((1,),),)), parted_life(one, other, (0, 1, 0))]
+[(((0, 0), (1, 1)),), ((0, 0), (0,))]
+# onelife/readings.py
+>>> from onelife.readings import lives_at, marks_next, places_at, told_at
+>>> coin = (((0, "yes"), (0, "no")),)
+>>> table = (((0,), (1, 0)),)
+>>> [lives_at(coin, 2, table, (0, 1)), places_at(coin, 2, table, (0, 1)), marks_next(coin, 2, table, (0, 1)), told_at(coin, 2, table, (0, 1, 0))]
+[(((0, 1), 1),), ((0, 1, 1),), (0,), ((1, 'yes'), (3, 'no'))]
+>>> [lives_at(coin, 2, table, (1, 1)), told_at(coin, 1, (((0,), (0,)),), (0,)), marks_next(coin, 2, table, ())]
+[(), None, (0, 1)]
+# onelife/counts.py
+>>> from onelife.counts import count_lives, count_spelled, fewest_turns, life_number, most_turns, nth_life
+>>> coin = (((0, "yes"), (0, "no")),)
+>>> table = (((0,), (1, 0)),)
+>>> [count_lives(coin, 10), count_spelled(coin, 2, table, 5), fewest_turns(coin, 2, table, 7), most_turns(coin, 2, table, 7)]
+[1024, 8, 7, 14]
+>>> [life_number(coin, (1, 0, 1)), nth_life(coin, 3, 5), fewest_turns(((),), 2, ((),), 1)]
+[5, (1, 0, 1), None]
+>>> nth_life(coin, 1, 2)
+raises BadNumber()
+# onelife/ports.py
+>>> from onelife.ports import coins_behind, on_the_way, port_machine, port_stand
+>>> ports = (0, 1, 1, True)
+>>> machines = [port_machine(ports, side) for side in (0, 1)]
+>>> tables = [tuple([tuple([(0,) if at == 0 else (1, 0) for at in range(len(state))]) for state in machine]) for machine in machines]
+>>> story = ((1, ("boot", (0, None, (), 0))), (1, ("ask", 0)), (1, ("turn",)))
+>>> [machines[1][0], port_stand(ports, 1, (0,)), coins_behind(ports, 2, tables[0], tables[1], story), on_the_way(ports, 2, tables[0], tables[1], story)]
+[((1, 'outa'), (2, 'ina')), (0, 1, 0), 0, (0, 1)]
+>>> from onelife.ports import coins_behind, most_coins, port_machine
+>>> ports = (0, 1, 1, False)
+>>> lanes = [tuple([tuple([(0,) for option in state]) for state in port_machine(ports, side)]) for side in (0, 1)]
+>>> [most_coins(ports, 1, lanes[0], lanes[1], many) for many in (0, 6, 8)]
+[1, 1, 2]
+# onelife/families.py
+>>> from onelife.families import count_apart, count_full, every_apart
+>>> [count_apart(2, 2, 2), count_full(2, 2, 2), count_full(2, 3, 2), count_full(3, 3, 1), every_apart(2, 2, 1)]
+[22, 2, 12, 6, (((0,), (1,)), ((1,), (0,)))]
+# onelife/budgets.py
+>>> from onelife.budgets import longer_life, most_longer, most_options, never_longer, teeth_for
+>>> coin = (((0, "yes"), (0, "no")),)
+>>> table = (((0,), (1, 0)),)
+>>> [most_options(coin, 2, table, 9), teeth_for(coin, 2, table, 9), never_longer(coin, 2, (((0,), (1,)),), table), most_longer(coin, 2, table, (((0,), (1,)),))]
+[9, 18, True, None]
+>>> [longer_life(coin, 2, table, (((0,), (1,)),)), most_longer((((1, "a"),), ()), 2, (((0, 1, 1),), ()), (((0,),), ())), longer_life(coin, 2, table, table)]
+[(1,), 2, None]
+# onelife/keepers.py
+>>> from onelife.keepers import idle_parts, lasting_notes, new_words, unspoken, without_idle
+>>> coin = (((0, "yes"), (0, "no")),)
+>>> table = (((0,), (1,)),)
+>>> birth = (0, None, (), 0)
+>>> story = (("boot", birth), ("cut",), ("boot", birth), ("ask", 0), ("cut",), ("boot", birth), ("ask", 1), ("turn",), ("cut",), ("boot", birth), ("cut",))
+>>> [lasting_notes(coin, 2, table, story), idle_parts(coin, 2, table, story), len(without_idle(coin, 2, table, story))]
+[((1, 1, (1,), 1),), ((0, 1), (9, 10)), 7]
+>>> [new_words(coin, 2, table, story), unspoken(coin, 2, table, story), unspoken(coin, 2, table, story[:5])]
+[((1, 'no'),), (), ((),)]
 """
 
 
@@ -174,7 +250,7 @@ class ExamplesTest(unittest.TestCase):
             self.assertGreater(wanted, 0, name)
 
     def test_all_files_are_there(self):
-        self.assertEqual(len(blocks()), 16)
+        self.assertEqual(len(blocks()), 25)
 
 
 if __name__ == "__main__":

@@ -18,7 +18,7 @@ BUILTINS = {
 METHODS = {
     "append", "clear", "copy", "count", "endswith", "extend", "find", "get", "index", "insert", "items", "join", "keys",
     "lower", "pop", "remove", "replace", "reverse", "setdefault", "split", "startswith", "strip", "update", "values"}
-LIBRARY = {"math": {"gcd"}}
+LIBRARY = {"math": {"gcd", "factorial"}, "itertools": {"combinations"}}
 WORDS_BARRED = (
     "type", "typing", "enum", "Enum", "Flag", "Generic", "Protocol", "ABC", "namedtuple", "dataclass", "overload",
     "contextmanager", "register", "mro", "elements", "open", "input", "law", "id", "eval", "exec", "vars", "dir",

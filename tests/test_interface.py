@@ -44,6 +44,28 @@ FUNCTIONS = {
     "tills": {
         "till_machine": "till", "till_stands": "till", "held_by": "till, heard", "too_much": "till, heard",
         "most_too_much": "till, marks, table, most", "shows_worst": "till, marks, table, most, value"},
+    "witnesses": {"one_life": "machine, marks, table, heard", "least_lot": "machine, marks, table, heard"},
+    "reports": {
+        "write_story": "story", "read_story": "text", "report": "machine, marks, table, story",
+        "tell_lives": "machine, marks, table, one, other"},
+    "unions": {"joined_table": "one, other, marks, first, second", "parted_life": "one, other, life"},
+    "readings": {name: "machine, marks, table, spelled" for name in (
+        "lives_at", "places_at", "marks_next", "told_at")},
+    "counts": {
+        "count_lives": "machine, options", "count_spelled": "machine, marks, table, turns",
+        "fewest_turns": "machine, marks, table, options", "most_turns": "machine, marks, table, options",
+        "life_number": "machine, life", "nth_life": "machine, options, number"},
+    "ports": {
+        "port_machine": "ports, side", "port_stand": "ports, side, life", "both_heard": "ports, marks, one, other, story",
+        "coins_behind": "ports, marks, one, other, story", "on_the_way": "ports, marks, one, other, story",
+        "most_coins": "ports, marks, one, other, most", "shows_coins": "ports, marks, one, other, most, value"},
+    "families": {name: "marks, many, long" for name in ("count_apart", "count_full", "every_apart")},
+    "budgets": {
+        "most_options": "machine, marks, table, teeth", "teeth_for": "machine, marks, table, options",
+        "never_longer": "machine, marks, one, other", "most_longer": "machine, marks, one, other",
+        "longer_life": "machine, marks, one, other"},
+    "keepers": {name: "machine, marks, table, story" for name in (
+        "lasting_notes", "idle_parts", "without_idle", "new_words", "unspoken")},
 }
 
 ERRORS = {
