@@ -31,10 +31,11 @@ def every_apart(marks, many, long):
     lots = apart_lots(marks, many, long)
     if lots > MOST_LOTS:
         raise TooMany(MOST_LOTS)
+    # Asked ahead of the search, which would try all fewer rows that are apart.
     if lots == 0:
         return ()
+    rows = sorted(rows_up_to(marks, long))
     found = [()]
-    rows = sorted(rows_up_to(marks, long)) if many > 0 else []
     for _ in range(many):
         found = [taken + (row,) for taken in found for row in rows if is_apart_from(row, taken)]
     return tuple(found)

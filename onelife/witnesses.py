@@ -55,7 +55,7 @@ def can_be_said(machine, table, pairs):
 def states_saying(machine, table, states, number, pair):
     """The states to which lives lead that were at one of some states with a number of marks, once they say a pair."""
     # Each state once for each number of marks, so that it does not matter how many lives come there.
-    reached = {count: {} for count in range(number, pair[0] + 1)}
+    reached = {count: {} for count in range(number, pair[0])}
     reached[number] = {state: True for state in states}
     found = {}
     for count in range(number, pair[0]):
